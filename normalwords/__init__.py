@@ -1,0 +1,1 @@
+"""Normalwords: groups told by machines."""

@@ -1,0 +1,53 @@
+"""The interface: names, arguments and the files in which they are defined."""
+
+import ast
+import importlib
+import inspect
+import unittest
+from pathlib import Path
+
+PACKAGE = Path(__file__).resolve().parent.parent / "normalwords"
+
+INTERFACE = {
+    "words": {"is_undo": "value", "is_word": "value letters", "undone": "undo word",
+              "freely_reduced": "undo word", "is_ahead": "one other"},
+    "languages": {"least_machine": "machine", "both": "one other", "either": "one other",
+                  "without": "one other", "first_word": "machine", "first_unlike": "one other",
+                  "is_within": "one other", "has_beginnings": "machine", "words_of": "machine length"},
+}
+
+CLASSES = {
+    "machines": {"Machine": {"__init__": "letters table ends", "__eq__": "other", "__len__": "",
+                             "state_after": "word", "takes": "word"}},
+}
+
+
+def defined(name):
+    """What the file of a module defines at its top, by name."""
+    tree = ast.parse((PACKAGE / f"{name}.py").read_text(encoding="utf-8"))
+    return {node.name: node for node in tree.body if isinstance(node, (ast.FunctionDef, ast.ClassDef))}
+
+
+class Interface(unittest.TestCase):
+    def test_functions(self):
+        for name, functions in INTERFACE.items():
+            module = importlib.import_module(f"normalwords.{name}")
+            for function, parameters in functions.items():
+                with self.subTest(module=name, function=function):
+                    self.assertIsInstance(defined(name)[function], ast.FunctionDef)
+                    found = inspect.signature(getattr(module, function)).parameters
+                    self.assertEqual(list(found), parameters.split())
+
+    def test_classes(self):
+        for name, classes in CLASSES.items():
+            module = importlib.import_module(f"normalwords.{name}")
+            for made, methods in classes.items():
+                self.assertIsInstance(defined(name)[made], ast.ClassDef)
+                for method, parameters in methods.items():
+                    with self.subTest(module=name, made=made, method=method):
+                        found = inspect.signature(vars(getattr(module, made))[method]).parameters
+                        self.assertEqual(list(found)[1:], parameters.split())
+
+
+if __name__ == "__main__":
+    unittest.main()
