@@ -171,7 +171,8 @@ def _bit(machine, state):
 def _hopes(machine, length):
     """For each number of letters up to length, and each state, whether some word of so many
     letters leads from it to a state with bit 1."""
+    follows = targets_of(machine)
     hopes = [[bit == 1 for bit in machine.ends]]
     for n in range(length):
-        hopes.append([any([hopes[n][t] for t in row]) for row in targets_of(machine)])
+        hopes.append([any([hopes[n][t] for t in targets]) for targets in follows])
     return hopes

@@ -74,3 +74,103 @@ def all_words(letters):
 def no_words(letters):
     """A machine that takes nothing."""
     return Machine(letters, [(None,) * letters], [0])
+
+
+def beside(letters, u, v):
+    """Two words read side by side, pair letter by pair letter."""
+    size = letters + 1
+    row = []
+    for n in range(max(len(u), len(v))):
+        x = u[n] if n < len(u) else letters
+        y = v[n] if n < len(v) else letters
+        row.append(x * size + y)
+    return tuple(row)
+
+
+def pairs_up_to(letters, length):
+    words = words_up_to(letters, length)
+    return [(u, v) for u in words for v in words]
+
+
+def taken_pairs(machine, letters, length):
+    """All pairs of words of at most so many letters that a machine takes."""
+    return [(u, v) for u, v in pairs_up_to(letters, length) if takes(machine, beside(letters, u, v))]
+
+
+def random_pair_machine(random, letters, states, gaps=0.3):
+    """A machine that takes nothing but words side by side: its states watch for blanks."""
+    size = letters + 1
+    plain = random_machine(random, size * size - 1, states, gaps)
+    table = []
+    for watch in range(3):
+        for row in plain.table:
+            told = []
+            for letter, state in enumerate(row):
+                x, y = divmod(letter, size)
+                if watch == 1 and x < letters or watch == 2 and y < letters or state is None:
+                    told.append(None)
+                else:
+                    told.append(state + states * (1 if x == letters else 2 if y == letters else 0))
+            table.append(tuple(told))
+    return Machine(size * size - 1, table, plain.ends * 3)
+
+
+def pairing(letters, pairs):
+    """A pair machine that takes just these pairs."""
+    return taking((letters + 1) ** 2 - 1, [beside(letters, u, v) for u, v in pairs])
+
+
+def random_words(random, letters, many, length):
+    return sorted({tuple(random.randrange(letters) for _ in range(random.randint(0, length)))
+                   for _ in range(many)})
+
+
+def random_pairs(random, letters, many, length):
+    """Pairs of words of at most so many letters."""
+    return sorted({(random.choice(random_words(random, letters, 3, length)),
+                    random.choice(random_words(random, letters, 3, length))) for _ in range(many)})
+
+
+def free_steps(undo):
+    """The words without a letter beside its undo, and for each letter the pair machine that
+    takes (u, v) if such words are one another with the letter behind."""
+    letters = len(undo)
+    size = letters + 1
+    # State 0 is the start, state x + 1 stands behind the letter x.
+    table = [tuple(x + 1 if state == 0 or undo[state - 1] != x else None for x in range(letters))
+             for state in range(letters + 1)]
+    steps = []
+    for x in range(letters):
+        rows = []
+        for state, row in enumerate(table):
+            told = [None] * (size * size - 1)
+            for y, after in enumerate(row):
+                told[y * size + y] = after
+            if row[x] is not None:
+                told[letters * size + x] = size
+            if row[undo[x]] is not None:
+                told[undo[x] * size + letters] = size
+            rows.append(tuple(told))
+        rows.append((None,) * (size * size - 1))
+        steps.append(Machine(size * size - 1, rows, [0] * size + [1]))
+    return Machine(letters, table, [1] * (letters + 1)), steps
+
+
+def first_forms(n, makers):
+    """For each number below n the first word whose letters' numbers, one for each letter, add
+    up to it, n being taken away as often as need be."""
+    forms = {0: ()}
+    order = [0]
+    for a in order:
+        for x, b in enumerate(makers):
+            if (a + b) % n not in forms:
+                forms[(a + b) % n] = forms[a] + (x,)
+                order.append((a + b) % n)
+    return forms
+
+
+def round_steps(n, makers):
+    """The machines of the numbers below n: their first words, and a step for each maker."""
+    forms = first_forms(n, makers)
+    steps = [pairing(len(makers), [(forms[a], forms[(a + b) % n]) for a in range(n)]) for b in makers]
+    return taking(len(makers), list(forms.values())), steps

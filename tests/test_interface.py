@@ -14,11 +14,19 @@ INTERFACE = {
     "languages": {"least_machine": "machine", "both": "one other", "either": "one other",
                   "without": "one other", "first_word": "machine", "first_unlike": "one other",
                   "is_within": "one other", "has_beginnings": "machine", "words_of": "machine length"},
+    "counts": {"count": "machine length", "recursion": "machine", "total": "machine", "growth": "machine"},
+    "pairs": {"side_by_side": "letters u v", "read_pair": "letters row", "stray_row": "machine letters",
+              "takes_pair": "machine letters u v"},
+    "relations": {"swapped": "machine letters", "firsts": "machine letters", "seconds": "machine letters",
+                  "behind": "one other letters", "equal_pairs": "machine", "all_pairs": "one other",
+                  "first_led": "machine letters word", "second_led": "machine letters word"},
 }
 
 CLASSES = {
     "machines": {"Machine": {"__init__": "letters table ends", "__eq__": "other", "__len__": "",
                              "state_after": "word", "takes": "word"}},
+    "tellings": {"Telling": {"__init__": "undo words steps", "__eq__": "other", "led": "word x",
+                             "walked": "word row"}},
 }
 
 
