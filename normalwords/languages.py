@@ -47,10 +47,7 @@ def without(one, other):
 
 def first_word(machine):
     """The first word that the machine takes, or None."""
-    for state, word in first_ways(machine).items():
-        if machine.ends[state] == 1:
-            return word
-    return None
+    return first_tail(machine, 0)
 
 
 def first_unlike(one, other):
@@ -60,7 +57,12 @@ def first_unlike(one, other):
 
 def is_within(one, other):
     """Whether other takes all that one takes."""
-    return first_word(_combined(one, other, WITHOUT)) is None
+    return first_without(one, other) is None
+
+
+def first_without(one, other):
+    """The first word that one takes and other does not, or None."""
+    return first_word(_combined(one, other, WITHOUT))
 
 
 def has_beginnings(machine):
@@ -85,11 +87,19 @@ def words_of(machine, length):
     return tuple([word for word, _ in ways])
 
 
-def first_ways(machine):
-    """For each state to which words lead the first one of these, the states in the order of
-    these words."""
-    ways = {0: ()}
-    order = [0]
+def first_tail(machine, start):
+    """The first word that leads from the state start to one with bit 1, or None."""
+    for state, word in first_ways(machine, start).items():
+        if machine.ends[state] == 1:
+            return word
+    return None
+
+
+def first_ways(machine, start=0):
+    """For each state to which words lead from start the first one of these, the states in the
+    order of these words."""
+    ways = {start: ()}
+    order = [start]
     at = 0
     while at < len(order):
         state = order[at]

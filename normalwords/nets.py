@@ -56,6 +56,21 @@ def determined(letters, net, goals):
     return drawn_machine(letters, (0,), moves, is_end)
 
 
+def way_to(start, moves, goal):
+    """The letters of a way of as few moves as can be from start to goal, or None."""
+    ways = {start: ()}
+    waiting = [start]
+    at = 0
+    while at < len(waiting) and goal not in ways:
+        here = waiting[at]
+        for letter, node in moves(here):
+            if node not in ways:
+                ways[node] = ways[here] + (letter,)
+                waiting.append(node)
+        at += 1
+    return ways.get(goal)
+
+
 def reached(follows, starts):
     """For each node whether some way, also one of no move, leads to it from one of starts;
     follows[n] lists the nodes to which a move leads from node n."""

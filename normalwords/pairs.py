@@ -37,11 +37,17 @@ def read_pair(letters, row):
     """The words (u, v) that are read as the row, or None."""
     if not is_word(row, pair_letters(letters)):
         raise InvalidWord(row)
+    u, v = sides(letters, row)
+    if side_by_side(letters, u, v) != row:
+        return None
+    return (u, v)
+
+
+def sides(letters, row):
+    """The left and the right letters of a word of pair letters, blanks left out."""
     parts = [divmod(letter, letters + 1) for letter in row]
     u = tuple([x for x, _ in parts if x < letters])
     v = tuple([y for _, y in parts if y < letters])
-    if side_by_side(letters, u, v) != row:
-        return None
     return (u, v)
 
 

@@ -3,7 +3,7 @@
 from normalwords.errors import InvalidWord
 from normalwords.languages import least_machine
 from normalwords.machines import Machine
-from normalwords.nets import determined, drawn
+from normalwords.nets import determined, drawn, way_to
 from normalwords.pairs import pair_letter, pair_letters
 from normalwords.words import is_word
 
@@ -84,6 +84,22 @@ def second_led(machine, letters, word):
     """The second word v, in order, such that the machine takes (word, v), or None."""
     found = _led(machine, letters, word, 2)
     return found[1] if len(found) > 1 else None
+
+
+def twice_led(machine, letters):
+    """Some word u such that the machine takes (u, v) and (u, w) for two words v and w, or None."""
+    rows = [_by_left(row, letters) for row in _with_blanks(least_machine(machine))]
+
+    def moves(node):
+        told = []
+        for x in range(letters + 1):
+            for y, s in rows[node[0]][x]:
+                told.extend([(x, (s, t, node[2] or y != z)) for z, t in rows[node[1]][x]])
+        return told
+
+    last = len(rows) - 1
+    way = way_to((0, 0, False), moves, (last, last, True))
+    return None if way is None else tuple([x for x in way if x < letters])
 
 
 def _with_blanks(machine):

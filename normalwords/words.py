@@ -41,3 +41,8 @@ def freely_reduced(undo, word):
 def is_ahead(one, other):
     """Whether one stands ahead of other: it is shorter, or as long and less."""
     return (len(one), one) < (len(other), other)
+
+
+def in_order(words):
+    """The words, rising, each once."""
+    return tuple([word for _, word in sorted({(len(word), word) for word in words})])

@@ -20,6 +20,11 @@ INTERFACE = {
     "relations": {"swapped": "machine letters", "firsts": "machine letters", "seconds": "machine letters",
                   "behind": "one other letters", "equal_pairs": "machine", "all_pairs": "one other",
                   "first_led": "machine letters word", "second_led": "machine letters word"},
+    "judging": {"witness": "telling", "is_witness": "telling value", "tells_group": "telling",
+                "tells_places": "telling"},
+    "edgewords": {"ring_form": "undo word", "edge_words": "telling"},
+    "alike": {"unlike_word": "one other", "are_alike": "one other"},
+    "maps": {"map_fault": "group other images", "is_map": "group other images", "image": "group other images word"},
 }
 
 CLASSES = {
@@ -27,6 +32,10 @@ CLASSES = {
                              "state_after": "word", "takes": "word"}},
     "tellings": {"Telling": {"__init__": "undo words steps", "__eq__": "other", "led": "word x",
                              "walked": "word row"}},
+    "groups": {"Group": {"__init__": "telling", "__eq__": "other", "normal": "word", "is_nothing": "word",
+                         "equal": "one other", "commute": "one other", "times": "one other", "undone": "word",
+                         "power": "word n", "order": "word most", "size": "", "is_commutative": ""},
+               "Places": {"__init__": "telling", "__eq__": "other", "led": "word row", "stays": "word", "size": ""}},
 }
 
 

@@ -74,11 +74,12 @@ class Language(unittest.TestCase):
                     continue
                 with self.subTest(file=name, line=node.lineno, name=bound):
                     self.assertNotIn(bound, imports | classes)
-                    self.assertFalse(hasattr(builtins, bound))
+                    # A doctest that ran ahead may have left the name _ there.
+                    self.assertFalse(hasattr(builtins, bound) and bound != "_")
 
     def test_builtins(self):
         for name, node in nodes_of(ast.Name):
-            if hasattr(builtins, node.id):
+            if hasattr(builtins, node.id) and node.id != "_":
                 self.assertIn(node.id, BUILTINS, f"{name}, line {node.lineno}")
 
     def test_no_unused_imports(self):
