@@ -15,7 +15,7 @@ class Group:
         if not tells_group(telling):
             raise Undefined("group")
         self.telling = telling
-        self._walker = Walker(telling)
+        self.walker = Walker(telling)
 
     def __eq__(self, other):
         return isinstance(other, Group) and self.telling == other.telling
@@ -23,7 +23,7 @@ class Group:
     def normal(self, word):
         """The normal word equal to the word."""
         _check_words(self.telling, [word])
-        return self._walker.walked((), word)
+        return self.walker.walked((), word)
 
     def is_nothing(self, word):
         """Whether the word is equal to the empty word."""
@@ -41,7 +41,7 @@ class Group:
     def times(self, one, other):
         """The normal word of one times other."""
         _check_words(self.telling, [one, other])
-        return self._walker.walked(self.normal(one), other)
+        return self.walker.walked(self.normal(one), other)
 
     def undone(self, word):
         """The normal word of what undoes the word."""
@@ -58,9 +58,9 @@ class Group:
         factor = self.normal(word) if n >= 0 else self.undone(word)
         told = ()
         for bit in f"{abs(n):b}":
-            told = self._walker.walked(told, told)
+            told = self.walker.walked(told, told)
             if bit == "1":
-                told = self._walker.walked(told, factor)
+                told = self.walker.walked(told, factor)
         return told
 
     def order(self, word, most):
@@ -71,7 +71,7 @@ class Group:
         factor = self.normal(word)
         here = ()
         for n in range(1, most + 1):
-            here = self._walker.walked(here, factor)
+            here = self.walker.walked(here, factor)
             if here == ():
                 return n
         return None
@@ -93,7 +93,7 @@ class Places:
         if not tells_places(telling):
             raise Undefined("places")
         self.telling = telling
-        self._walker = Walker(telling)
+        self.walker = Walker(telling)
 
     def __eq__(self, other):
         return isinstance(other, Places) and self.telling == other.telling
@@ -103,12 +103,12 @@ class Places:
         _check_words(self.telling, [word, row])
         if not self.telling.words.takes(word):
             raise Undefined("normal")
-        return self._walker.walked(word, row)
+        return self.walker.walked(word, row)
 
     def stays(self, word):
         """Whether the word leads the empty word to itself."""
         _check_words(self.telling, [word])
-        return self._walker.walked((), word) == ()
+        return self.walker.walked((), word) == ()
 
     def size(self):
         """How many normal words there are, None if not finitely many."""

@@ -157,23 +157,23 @@ def _combined(one, other, bits):
     def moves(pair):
         told = []
         for x in range(one.letters):
-            after = (_after(one, pair[0], x), _after(other, pair[1], x))
+            after = (after_letter(one, pair[0], x), after_letter(other, pair[1], x))
             if after != (None, None):
                 told.append((x, after))
         return told
 
     def is_end(pair):
-        return bits[2 * _bit(one, pair[0]) + _bit(other, pair[1])] == 1
+        return bits[2 * bit_of(one, pair[0]) + bit_of(other, pair[1])] == 1
 
     return drawn_machine(one.letters, (0, 0), moves, is_end)
 
 
-def _after(machine, state, x):
+def after_letter(machine, state, x):
     """The state to which x leads, None from None."""
     return None if state is None else machine.table[state][x]
 
 
-def _bit(machine, state):
+def bit_of(machine, state):
     """The state's bit, 0 for None."""
     return 0 if state is None else machine.ends[state]
 

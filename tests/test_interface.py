@@ -25,6 +25,13 @@ INTERFACE = {
     "edgewords": {"ring_form": "undo word", "edge_words": "telling"},
     "alike": {"unlike_word": "one other", "are_alike": "one other"},
     "maps": {"map_fault": "group other images", "is_map": "group other images", "image": "group other images word"},
+    "derivations": {"made_by": "undo rules derivation", "derives": "undo rules word value",
+                    "tells_rules": "group rules derivations"},
+    "shortest": {"longer_step": "group", "are_shortest": "group", "greater_step": "group", "are_least": "group"},
+    "balls": {"ball": "group radius", "sphere": "group radius", "least_word": "group word"},
+    "subgroups": {"loop_words": "group machine", "subgroup_fault": "group machine", "is_fault": "group machine value",
+                  "is_subgroup": "group machine", "has_element": "group machine word", "common": "group one other",
+                  "made_subgroup": "group words most", "index": "group machine most"},
 }
 
 CLASSES = {
