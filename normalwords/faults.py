@@ -32,7 +32,7 @@ def apart_fault(telling):
         return None
     ring, moved, (x, word, state, rows) = found
     walker = Walker(telling)
-    start = _moved_by(telling.undo, walker, word, ring, moved)
+    start = moved_by(telling.undo, walker, word, ring, moved)
     tail = first_tail(least_machine(telling.steps[x]), state)
     for row in rows:
         p, _ = sides(telling.letters, row)
@@ -57,6 +57,18 @@ def moving_edge(telling):
     return None
 
 
+def moved_by(undo, walker, word, ring, moved):
+    """A normal word that the word leads to another one; ring is its ring form, by which moved
+    is led to another one."""
+    left = freely_reduced(undo, word)
+    ahead = left[:(len(left) - len(ring)) // 2]
+    for here in walker.chain(moved, ring):
+        start = walker.walked(here, undone(undo, ahead))
+        if walker.walked(start, word) != start:
+            return start
+    return None
+
+
 def _moved_word(telling, leads, ring):
     """A normal word that the ring leads to another one, or None."""
     # Both halves lead alike exactly if the ring leads all words to themselves, and half as
@@ -67,18 +79,6 @@ def _moved_word(telling, leads, ring):
         return None
     u, _ = sides(telling.letters, row)
     return u
-
-
-def _moved_by(undo, walker, word, ring, moved):
-    """A normal word that the word leads to another one; ring is its ring form, by which moved
-    is led to another one."""
-    left = freely_reduced(undo, word)
-    ahead = left[:(len(left) - len(ring)) // 2]
-    for here in walker.chain(moved, ring):
-        start = walker.walked(here, undone(undo, ahead))
-        if walker.walked(start, word) != start:
-            return start
-    return None
 
 
 def _beginning_fault(telling):

@@ -5,11 +5,6 @@ from normalwords.languages import both, first_word
 from normalwords.machines import Machine
 from normalwords.pairs import pair_letters, sides
 
-# The states of the machine that counts the letters behind the end of the left word.
-NONE_BEHIND = 0
-ONE_BEHIND = 1
-MORE_BEHIND = 2
-
 # The states of the machine that watches whether the left word, with a letter behind, is ahead
 # of the right one: so far both are the same, it is ahead, it is ahead and all is read.
 SAME = 0
@@ -55,10 +50,11 @@ def _found_step(telling, wanted):
 
 def _longer_pairs(letters):
     """A machine that takes the pairs whose right word has two letters more, or still more."""
+    # The states count the letters behind the end of the left word, up to two.
     def after(state, a, b):
         if a == letters:
-            return min(state + 1, MORE_BEHIND)
-        return NONE_BEHIND if state == NONE_BEHIND else None
+            return min(state + 1, 2)
+        return 0 if state == 0 else None
 
     return _pair_machine(letters, after, (0, 0, 1))
 

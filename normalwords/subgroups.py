@@ -42,12 +42,12 @@ def subgroup_fault(group, machine):
 def is_fault(group, machine, value):
     """Whether any value tells why the machine does not take the normal words of a subgroup."""
     _check_letters(group, machine)
-    if not isinstance(value, tuple) or len(value) == 0 or not isinstance(value[0], str):
+    if not isinstance(value, tuple) or len(value) == 0:
         return False
-    if value == ("empty",):
-        return not machine.takes(())
     if not all([is_word(word, machine.letters) for word in value[1:]]):
         return False
+    if value[0] == "empty" and len(value) == 1:
+        return not machine.takes(())
     if value[0] == "stray" and len(value) == 2:
         return machine.takes(value[1]) and not group.telling.words.takes(value[1])
     if value[0] == "left" and len(value) == 3:

@@ -40,20 +40,12 @@ class StepReader:
     def __init__(self, step, letters):
         machine = least_machine(step)
         rights = [_rights_by_left(row, letters) for row in machine.table]
-
-        def backs(states, a):
-            return {t: (s, b) for s in states for b, t in rights[s][a]}
-
-        def moves(states):
-            told = [(a, tuple(sorted(backs(states, a)))) for a in range(letters)]
-            return [(a, after) for a, after in told if len(after) > 0]
-
-        nodes, net = drawn((0,), moves)
+        sets, net = _sets_met(rights, letters)
         self._letters = letters
         self._after = [dict(told) for told in net]
-        self._backs = [[backs(states, a) for a in range(letters)] for states in nodes]
+        self._backs = [[_backs(rights, states, a) for a in range(letters)] for states in sets]
         self._tails = _tails(machine, letters)
-        self._lasts = [_last_of(states, self._tails) for states in nodes]
+        self._lasts = [_last_of(states, self._tails) for states in sets]
 
     def led(self, word):
         """The right word that goes with a left word."""
@@ -77,6 +69,22 @@ def _rights_by_left(row, letters):
     size = letters + 1
     parts = [row[a * size:a * size + size] for a in range(letters)]
     return [[(b, t) for b, t in enumerate(part) if t is not None] for part in parts]
+
+
+def _sets_met(rights, letters):
+    """The sets of states that are met beside the beginnings of left words, and the net of the
+    left letters between them."""
+    def moves(states):
+        told = [(a, tuple(sorted(_backs(rights, states, a)))) for a in range(letters)]
+        return [(a, after) for a, after in told if len(after) > 0]
+
+    return drawn((0,), moves)
+
+
+def _backs(rights, states, a):
+    """For each state to which a left letter leads from a set of states, from which one of these
+    and beside which right letter."""
+    return {t: (s, b) for s in states for b, t in rights[s][a]}
 
 
 def _tails(machine, letters):

@@ -15,6 +15,14 @@ NUMBER_ROWS = [(1, 2), (1, NO), (NO, 2)]
 PLANE_ROWS = [(1, 2, 3, 4), (1, NO, 3, 4), (NO, 2, 3, 4), (NO, NO, 3, NO), (NO, NO, NO, 4)]
 
 
+def told(start, after, word):
+    """To what the letters of the word lead start."""
+    held = start
+    for x in word:
+        held = after(held, x)
+    return held
+
+
 class Sample:
     """A telling; one is the element of the empty word, after(element, x) that times x."""
 
@@ -24,10 +32,7 @@ class Sample:
         self.after = after
 
     def element(self, word):
-        told = self.one
-        for x in word:
-            told = self.after(told, x)
-        return told
+        return told(self.one, self.after, word)
 
 
 def drawn(letters, start, after, is_end):
@@ -93,11 +98,13 @@ def finite_forms(letters, start, after, is_deep=False):
     return forms
 
 
-def finite(undo, start, after, is_deep=False):
+def finite(undo, start, after, is_deep=False, words=None):
     """What letters do to finitely many things; where these are the elements of a group, and
-    after is times, this is the group."""
+    after is times, this is the group. The normal words are words, if they are told."""
     letters = len(undo)
     forms = finite_forms(letters, start, after, is_deep)
+    if words is not None:
+        forms = {told(start, after, word): word for word in words}
     steps = [least_machine(pairing(letters, [(u, forms[after(thing, x)]) for thing, u in forms.items()]))
              for x in range(letters)]
     return Sample(Telling(undo, least_machine(taking(letters, list(forms.values()))), steps), start, after)

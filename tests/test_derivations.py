@@ -90,6 +90,12 @@ class Derives(unittest.TestCase):
             self.assertIs(derives(UNDO, self.RULES, COMMUTE, value), False, value)
             self.assertIs(derives(UNDO, self.RULES, (), value), False, value)
 
+    def test_signs_are_1_and_less_1_alone(self):
+        back = undone(UNDO, COMMUTE)
+        self.assertIs(derives(UNDO, self.RULES, back, (((), 0, -1),)), True)
+        for sign in (0, 2, -2, 10 ** 20, True, False, None, "-1"):
+            self.assertIs(derives(UNDO, self.RULES, back, (((), 0, sign),)), False)
+
     def test_other_values(self):
         nested = ()
         for _ in range(9):

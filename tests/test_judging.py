@@ -4,9 +4,12 @@ speak of these)."""
 import unittest
 from random import Random
 
+from normalwords.faults import moved_by
 from normalwords.judging import is_witness, tells_group, tells_places, witness
 from normalwords.machines import Machine
 from normalwords.tellings import Telling
+from normalwords.walkers import Walker
+from normalwords.words import undone
 from reference import (
     all_words, beside, no_words, pairing, random_machine, takes, taking, words_up_to)
 from samples import (
@@ -340,6 +343,9 @@ class Values(unittest.TestCase):
         self.right_and_wrong(telling, [("short", 0, ()), ("short", 0, (0, 0))], [
             ("short", 0, (0,)), ("short", 0, (1,)), ("short", 1, ()), ("short", 0, (0, 1)), ("short", 0, []),
             ("short", False, ()), ("short", 2, ()), ("short", 0), ("short", 0, (), ()), ("short", 0, (True,))])
+        # Both must be normal.
+        gapped = Telling((1, 0), taking(2, [(), (0, 1), (1,)]), [no_words(8)] * 2)
+        self.right_and_wrong(gapped, [("short", 1, ())], [("short", 1, (0,)), ("short", 0, ())])
 
     def test_apart(self):
         # 2 leads n to -n: () to itself, but 1 to -1.
@@ -376,6 +382,21 @@ class Values(unittest.TestCase):
                   ("none", "0", ()), ("two", 0, "", "0", "1")]
         for telling in list(broken().values()) + [WHOLE, FREE]:
             self.right_and_wrong(telling, [], values)
+
+
+class MovedBy(unittest.TestCase):
+    def test_a_word_that_is_its_ring_turned(self):
+        # Letter 0 leads six points around, 2 changes the places of 1 and 2: so 2 between words
+        # that lead three points on, and back, changes those of 4 and 5.
+        sample = places_sample("six points")
+        walker = Walker(sample.telling)
+        for turn in ((), (0,), (0, 0, 0), (1,), (1, 1), (0, 2, 0), (2, 0, 0, 0)):
+            word = turn + (2,) + undone((1, 0, 2), turn)
+            for moved in ((0,), (0, 0)):
+                self.assertNotEqual(walker.led(moved, 2), moved)
+                start = moved_by((1, 0, 2), walker, word, (2,), moved)
+                self.assertTrue(sample.telling.words.takes(start))
+                self.assertNotEqual(sample.element(start + word), sample.element(start))
 
 
 class Limits(unittest.TestCase):

@@ -41,6 +41,12 @@ class Language(unittest.TestCase):
                 self.assertLessEqual(node.end_lineno - node.lineno + 1, 40)
                 self.assertEqual(node.decorator_list, [])
 
+    def test_making_returns_nothing(self):
+        for name, node in nodes_of(ast.FunctionDef):
+            if node.name == "__init__":
+                found = [part for part in ast.walk(node) if isinstance(part, ast.Return)]
+                self.assertEqual(found, [], f"{name}, line {node.lineno}")
+
     def test_statements_that_are_not_used(self):
         for name, node in nodes_of(BARRED):
             self.fail(f"{name}, line {node.lineno}: {type(node).__name__}")

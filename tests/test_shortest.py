@@ -8,7 +8,7 @@ from normalwords.groups import Group
 from normalwords.shortest import are_least, are_shortest, greater_step, longer_step
 from normalwords.words import is_ahead
 from reference import words_up_to
-from samples import GROUPS, group, group_sample, permuted, rounds
+from samples import GROUPS, finite, group, group_sample, permuted, rounds
 
 # Groups whose normal words are not the shortest ones, and such whose normal words are these, but
 # not the first ones.
@@ -82,6 +82,23 @@ class Answers(unittest.TestCase):
                 self.assertEqual((are_shortest(made), are_least(made)), answers)
                 met.add(answers)
         self.assertEqual(met, {(True, True), (False, False)})
+
+    def test_where_all_is_right_at_first(self):
+        # Eight elements, told by which of the letters 0, 1, 2 their words have an odd number of.
+        def eight(words):
+            return finite((0, 1, 2), 0, lambda held, x: held ^ (1 << x), words=words)
+
+        short = [(), (0,), (1,), (2,), (0, 1), (0, 2)]
+        later = eight(short + [(1, 2), (0, 2, 1)])
+        self.assertEqual(plain_answers(later), (True, False))
+        self.assertEqual(greater_step(Group(later.telling)), (2, (0, 1), (0, 2, 1)))
+        self.assertFalse(are_least(Group(later.telling)))
+        longer = eight(short + [(0, 1, 2), (0, 1, 2, 0)])
+        self.assertEqual(plain_answers(longer), (False, False))
+        self.assertIn(longer_step(Group(longer.telling)), ((2, (1,), (0, 1, 2, 0)), (1, (2,), (0, 1, 2, 0))))
+        self.assertFalse(are_shortest(Group(longer.telling)))
+        least = eight(short + [(1, 2), (0, 1, 2)])
+        self.assertTrue(are_least(Group(least.telling)))
 
     def test_just_one_letter_more_than_is_needed(self):
         # v may have one letter more than u: the words need not be longer than others for it.

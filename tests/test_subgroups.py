@@ -263,7 +263,8 @@ class FaultValues(unittest.TestCase):
         wrong = [("left", (), (0,)), ("left", (0,), (1,)), ("left", (0,), (1, 2)), ("left", (2,), (0, 3)),
                  ("left", (0,), (2,)), ("left", (2,), (2,)), ("left", (), (3,)), ("left", (1,), (0,)),
                  ("left", (), (0, 0)), ("left", (0,), ()), ("left", (0, 0), (0,)), ("left", (), (2, 1)),
-                 ("left", (), (3, 0)), ("left", [], (1,)), ("left", (), [1]), ("left", (), (True,)),
+                 ("left", (), (3, 0)), ("Left", (0,), (0,)), ("", (0,), (0,)), (0, (0,), (0,)),
+                 ("left", [], (1,)), ("left", (), [1]), ("left", (), (True,)),
                  ("left", (False,), (0,)), ("left", (0,)), ("left", (), (1,), ()), ["left", (), (1,)],
                  ("left", None, (1,)), ("left", (), None), ("left", (), (5,)), ("left", (9,), (1,)), ("left", (), 1)]
         self.right_and_wrong(machine, right, wrong)
