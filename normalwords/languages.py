@@ -111,6 +111,38 @@ def first_ways(machine, start=0):
     return ways
 
 
+def taking(letters, words):
+    """The least machine that takes just these words."""
+    table = [[None] * letters]
+    ends = [0]
+    for word in words:
+        state = 0
+        for x in word:
+            if table[state][x] is None:
+                table[state][x] = len(table)
+                table.append([None] * letters)
+                ends.append(0)
+            state = table[state][x]
+        ends[state] = 1
+    return least_machine(Machine(letters, [tuple(row) for row in table], ends))
+
+
+def respelled(machine, letters, places):
+    """The machine over so many letters that reads places[x] as the machine reads x."""
+    table = []
+    for row in machine.table:
+        told = [None] * letters
+        for x, t in enumerate(row):
+            told[places[x]] = t
+        table.append(tuple(told))
+    return Machine(letters, table, machine.ends)
+
+
+def listed(row):
+    """The letters of a row that lead to a state, with these states."""
+    return [(x, t) for x, t in enumerate(row) if t is not None]
+
+
 def live_states(machine):
     """For each state whether it is live."""
     follows = targets_of(machine)

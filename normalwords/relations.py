@@ -1,8 +1,7 @@
 """Pair machines as relations: turned, cut, put one behind the other, and followed."""
 
 from normalwords.errors import InvalidWord
-from normalwords.languages import least_machine
-from normalwords.machines import Machine
+from normalwords.languages import least_machine, listed, respelled
 from normalwords.nets import determined, drawn, way_to
 from normalwords.pairs import pair_letter, pair_letters
 from normalwords.words import is_word
@@ -12,8 +11,7 @@ def swapped(machine, letters):
     """The least pair machine that takes (v, u) for the pairs (u, v) taken."""
     parts = [divmod(letter, letters + 1) for letter in range(machine.letters)]
     places = [pair_letter(letters, y, x) for x, y in parts]
-    table = [tuple([row[place] for place in places]) for row in machine.table]
-    return least_machine(Machine(machine.letters, table, machine.ends))
+    return least_machine(respelled(machine, machine.letters, places))
 
 
 def firsts(machine, letters):
@@ -21,7 +19,7 @@ def firsts(machine, letters):
     table = _with_blanks(least_machine(machine))
 
     def moves(state):
-        return [(letter // (letters + 1), t) for letter, t in enumerate(table[state]) if t is not None]
+        return [(letter // (letters + 1), t) for letter, t in listed(table[state])]
 
     return _least_told(letters, 0, len(table) - 1, moves)
 
@@ -50,13 +48,8 @@ def behind(one, other, letters):
 def equal_pairs(machine):
     """The least pair machine that takes (u, u) for all u that the machine takes."""
     letters = machine.letters
-    table = []
-    for row in machine.table:
-        pairs = [None] * pair_letters(letters)
-        for x, t in enumerate(row):
-            pairs[pair_letter(letters, x, x)] = t
-        table.append(tuple(pairs))
-    return least_machine(Machine(pair_letters(letters), table, machine.ends))
+    places = [pair_letter(letters, x, x) for x in range(letters)]
+    return least_machine(respelled(machine, pair_letters(letters), places))
 
 
 def all_pairs(one, other):
@@ -66,8 +59,8 @@ def all_pairs(one, other):
     others = _with_blanks(other)
 
     def moves(node):
-        lefts = _listed(ones[node[0]])
-        rights = _listed(others[node[1]])
+        lefts = listed(ones[node[0]])
+        rights = listed(others[node[1]])
         return [(pair_letter(letters, x, y), (s, t)) for x, s in lefts for y, t in rights]
 
     goal = (len(ones) - 1, len(others) - 1)
@@ -111,20 +104,15 @@ def _with_blanks(machine):
     return table
 
 
-def _listed(row):
-    """The letters of a row that lead to a state, with these states."""
-    return [(letter, state) for letter, state in enumerate(row) if state is not None]
-
-
 def _by_right(row, letters):
     """For each right side of a pair letter, the blank too, the left sides and their states."""
-    return [_listed(row[y::letters + 1]) for y in range(letters + 1)]
+    return [listed(row[y::letters + 1]) for y in range(letters + 1)]
 
 
 def _by_left(row, letters):
     """For each left side of a pair letter, the blank too, the right sides and their states."""
     size = letters + 1
-    return [_listed(row[x * size:x * size + size]) for x in range(size)]
+    return [listed(row[x * size:x * size + size]) for x in range(size)]
 
 
 def _least_told(letters, start, goal, moves):

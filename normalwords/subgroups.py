@@ -2,9 +2,9 @@
 
 from normalwords.basics import is_sequence, is_whole
 from normalwords.errors import InvalidNumber, InvalidWord, Undefined
-from normalwords.languages import after_letter, bit_of, both, first_ways, first_without, first_word, least_machine
+from normalwords.languages import (
+    after_letter, bit_of, both, first_ways, first_without, first_word, least_machine, taking)
 from normalwords.leads import Leads
-from normalwords.machines import Machine
 from normalwords.nets import drawn_machine
 from normalwords.pairs import sides
 from normalwords.words import in_order, is_word, undone
@@ -91,7 +91,7 @@ def made_subgroup(group, words, most):
                 met[there] = True
                 waiting.append(there)
         at += 1
-    return _taking(group.telling.letters, waiting) if len(waiting) <= most else None
+    return taking(group.telling.letters, waiting) if len(waiting) <= most else None
 
 
 def index(group, machine, most):
@@ -192,19 +192,3 @@ def _parted(pairs, machine):
 def _after(machine, state, x):
     """The state to which a letter leads, or a blank, which leads nowhere else."""
     return state if x == machine.letters else after_letter(machine, state, x)
-
-
-def _taking(letters, words):
-    """The least machine that takes just these words."""
-    table = [[None] * letters]
-    ends = [0]
-    for word in words:
-        state = 0
-        for x in word:
-            if table[state][x] is None:
-                table[state][x] = len(table)
-                table.append([None] * letters)
-                ends.append(0)
-            state = table[state][x]
-        ends[state] = 1
-    return least_machine(Machine(letters, [tuple(row) for row in table], ends))

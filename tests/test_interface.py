@@ -32,6 +32,10 @@ INTERFACE = {
     "subgroups": {"loop_words": "group machine", "subgroup_fault": "group machine", "is_fault": "group machine value",
                   "is_subgroup": "group machine", "has_element": "group machine word", "common": "group one other",
                   "made_subgroup": "group words most", "index": "group machine most"},
+    "tables": {"table_group": "table makers", "product_of": "table makers word"},
+    "rounds": {"whole_numbers": "", "round_group": "n", "mirrors": ""},
+    "frees": {"free_group": "n"},
+    "besides": {"beside": "one other"},
 }
 
 CLASSES = {
