@@ -26,13 +26,19 @@ def drawn_machine(letters, start, moves, is_end):
     """The machine whose states are the nodes met from start on; no node has two moves of
     one letter."""
     nodes, net = drawn(start, moves)
+    return Machine(letters, table_of(letters, net), [1 if is_end(node) else 0 for node in nodes])
+
+
+def table_of(letters, net):
+    """The table of a machine whose states are the nodes of a net; no node has two moves of one
+    letter."""
     table = []
     for told in net:
         row = [None] * letters
         for letter, state in told:
             row[letter] = state
         table.append(tuple(row))
-    return Machine(letters, table, [1 if is_end(node) else 0 for node in nodes])
+    return table
 
 
 def determined(letters, net, goals):

@@ -9,17 +9,15 @@ MOST_LETTERS = 4
 
 
 class Part:
-    """The least machines of a group, over the letters of the greater one; own are those among
-    them that are the group's letters."""
+    """The least machines of a group, over the letters of the greater one."""
 
     def __init__(self, group, first, letters):
         telling = group.telling
-        self.own = list(range(first, first + telling.letters))
         # The blank behind the letters stays the blank.
-        places = self.own + [letters]
+        places = list(range(first, first + telling.letters)) + [letters]
         pairs = [divmod(letter, telling.letters + 1) for letter in range(pair_letters(telling.letters))]
         spelled = [pair_letter(letters, places[x], places[y]) for x, y in pairs]
-        self.words = respelled(least_machine(telling.words), letters, self.own)
+        self.words = respelled(least_machine(telling.words), letters, places)
         self.steps = [respelled(least_machine(step), pair_letters(letters), spelled) for step in telling.steps]
 
 

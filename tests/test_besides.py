@@ -14,7 +14,7 @@ from normalwords.shortest import are_least, longer_step
 from normalwords.tables import table_group
 from normalwords.tellings import Telling
 from made import TABLES, check_group, check_machines
-from samples import GROUPS, group, group_sample, is_small, differing, PLANE_ROWS
+from samples import GROUPS, PLANE_ROWS, differing, finite, group, group_sample, is_small
 
 NO = None
 
@@ -133,6 +133,13 @@ class Besides(unittest.TestCase):
         self.assertEqual(made, beside(two, beside(two, beside(two, two))))
         self.assertIsNone(longer_step(made))
         self.assertIs(are_least(made), True)
+
+    def test_words_that_are_not_the_first_ones(self):
+        turned = finite((0, 1), (0, 0), lambda held, x: tuple(n ^ (x == y) for y, n in enumerate(held)),
+                        words=[(), (0,), (1,), (1, 0)])
+        made = beside(whole_numbers(), Group(turned.telling))
+        check_machines(self, made)
+        self.assertEqual(made.normal((2, 3, 0, 2, 0, 2)), (0, 0, 3, 2))
 
     def test_machines_with_more_states_than_they_need(self):
         words = Machine(2, [(1, 2), (3, NO), (NO, 2), (3, 4), (4, 4)], [1, 1, 1, 1, 0])

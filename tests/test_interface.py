@@ -36,6 +36,10 @@ INTERFACE = {
     "rounds": {"whole_numbers": "", "round_group": "n", "mirrors": ""},
     "frees": {"free_group": "n"},
     "besides": {"beside": "one other"},
+    "joins": {"joined": "one other"},
+    "rewriting": {"last_form": "undo exchanges word", "two_forms": "undo exchanges"},
+    "rulegroups": {"is_complete": "undo exchanges", "rule_group": "undo exchanges radius"},
+    "texts": {"write_machine": "machine", "read_machine": "text", "write_telling": "telling", "read_telling": "text"},
 }
 
 CLASSES = {
@@ -47,6 +51,7 @@ CLASSES = {
                          "equal": "one other", "commute": "one other", "times": "one other", "undone": "word",
                          "power": "word n", "order": "word most", "size": "", "is_commutative": ""},
                "Places": {"__init__": "telling", "__eq__": "other", "led": "word row", "stays": "word", "size": ""}},
+    "desk": {"Desk": {"__init__": "group", "run": "command"}},
 }
 
 

@@ -58,6 +58,7 @@ class Language(unittest.TestCase):
                 self.assertTrue(node.module.startswith("normalwords."))
                 tree = ast.parse((PACKAGE / f"{node.module.split('.')[1]}.py").read_text(encoding="utf-8"))
                 made = {part.name for part in tree.body if isinstance(part, (ast.FunctionDef, ast.ClassDef))}
+                made |= {part.targets[0].id for part in tree.body if isinstance(part, ast.Assign)}
                 for part in node.names:
                     self.assertIsNone(part.asname)
                     self.assertIn(part.name, made)
