@@ -17,12 +17,9 @@ def two_forms(undo, exchanges):
     """Some (word, one, other), one and other being unlike last forms of the word, or None if
     each word has just one last form."""
     pairs = checked_exchanges(undo, exchanges)
-    for i, first in enumerate(pairs):
-        for j, second in enumerate(pairs):
-            meetings = _overlaps(first, second)
-            if i != j:
-                meetings.extend(_insides(first, second))
-            for word, one, other in meetings:
+    for first in pairs:
+        for second in pairs:
+            for word, one, other in _overlaps(first, second) + _insides(first, second):
                 forms = (last_exchanged(pairs, one), last_exchanged(pairs, other))
                 if forms[0] != forms[1]:
                     return (word, forms[0], forms[1])

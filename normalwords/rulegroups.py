@@ -70,8 +70,9 @@ def rule_group(undo, exchanges, radius):
         if len(lost) == 0:
             return Group(Telling(undo, words, steps))
         # Each way that is lost meets a new difference, and few have so few letters.
-        if max([differences.add_way(u, v) for u, v in lost]) > radius:
-            return None
+        for u, v in lost:
+            if differences.add_way(u, v) > radius:
+                return None
 
 
 def _last_forms(letters, pairs):

@@ -100,6 +100,17 @@ def plain_is_subgroup(group_, machine, length):
     return all(takes(machine, group_.times(u, group_.undone(v))) for u in words for v in words)
 
 
+def with_a_change(random, machine):
+    """The machine with one bit, or one place of its table, made another one at random."""
+    rows, ends = [list(row) for row in machine.table], list(machine.ends)
+    state = random.randrange(len(rows))
+    if random.random() < 0.5:
+        ends[state] = 1 - ends[state]
+    else:
+        rows[state][random.randrange(len(rows[0]))] = random.choice([None] + list(range(len(rows))))
+    return Machine(machine.letters, [tuple(row) for row in rows], ends)
+
+
 class LoopWords(unittest.TestCase):
     def test_by_hand(self):
         plane = group("plane")
@@ -198,13 +209,7 @@ class Faults(unittest.TestCase):
             name, action = random.choice([pair for pair in ACTIONS if "triangle" not in pair[0]])
             made = group(name)
             machine = staying(made.telling, action)
-            rows, ends = [list(row) for row in machine.table], list(machine.ends)
-            state = random.randrange(len(rows))
-            if random.random() < 0.5:
-                ends[state] = 1 - ends[state]
-            else:
-                rows[state][random.randrange(len(rows[0]))] = random.choice([None] + list(range(len(rows))))
-            changed = Machine(machine.letters, [tuple(row) for row in rows], ends)
+            changed = with_a_change(random, machine)
             found = subgroup_fault(made, changed)
             self.assertIs(is_subgroup(made, changed), found is None)
             if found is not None:

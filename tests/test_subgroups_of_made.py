@@ -19,7 +19,7 @@ from normalwords.tables import table_group
 from exchanging import COMPLETE
 from made import TABLES
 from reference import taking
-from test_subgroups import around, plain_is_subgroup, plain_loop_words, powers, reached, staying
+from test_subgroups import around, plain_is_subgroup, plain_loop_words, powers, reached, staying, with_a_change
 
 TWO = table_group(TABLES["2"], (1,))
 SWAPS = table_group(TABLES["swaps"], (1, 2))
@@ -113,13 +113,7 @@ class Subgroups(unittest.TestCase):
         met = set()
         for name, made in list(MADE.items()) * 4:
             machine = staying(made.telling, random.choice(actions(made, 2)))
-            rows, ends = [list(row) for row in machine.table], list(machine.ends)
-            state = random.randrange(len(rows))
-            if random.random() < 0.5:
-                ends[state] = 1 - ends[state]
-            else:
-                rows[state][random.randrange(len(rows[0]))] = random.choice([None] + list(range(len(rows))))
-            changed = Machine(machine.letters, [tuple(row) for row in rows], ends)
+            changed = with_a_change(random, machine)
             found = subgroup_fault(made, changed)
             with self.subTest(name=name, machine=machine, found=found):
                 self.assertIs(is_subgroup(made, changed), found is None)

@@ -233,6 +233,11 @@ class Wrong(unittest.TestCase):
                 (True, 2), (1, 2, None), (1, (2,)), (1, 2, 0, 1), (1, "2"), THREE, 1, table_group(ONE, (0,))):
             self.both_wrong(InvalidImages, makers, THREE, makers)
 
+    def test_no_makers_at_all(self):
+        # One element is a product of no makers, and yet one is needed.
+        for table in (ONE, TWO):
+            self.both_wrong(InvalidImages, (), table, ())
+
     def test_makers_of_a_part_only(self):
         for name, makers in (("4", (2,)), ("2 2", (1,)), ("2 2", (0, 3)), ("6", (2, 4)), ("6", (3, 0)), ("8", (2, 4, 6)),
                              ("swaps", (0,)), ("2 2 2", (1, 2, 3)), ("turns", (0,))):
