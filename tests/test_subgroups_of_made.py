@@ -4,45 +4,15 @@ import unittest
 from itertools import permutations, product
 from random import Random
 
-from normalwords.besides import beside
 from normalwords.edgewords import edge_words
 from normalwords.errors import Undefined
-from normalwords.frees import free_group
-from normalwords.joins import joined
 from normalwords.languages import both
 from normalwords.machines import Machine
-from normalwords.rounds import mirrors, round_group, whole_numbers
-from normalwords.rulegroups import rule_group
 from normalwords.subgroups import (
     common, has_element, index, is_fault, is_subgroup, loop_words, made_subgroup, subgroup_fault)
-from normalwords.tables import table_group
-from exchanging import COMPLETE
-from made import TABLES
+from groups_made import MADE, SWAPS
 from reference import taking
 from test_subgroups import around, plain_is_subgroup, plain_loop_words, powers, reached, staying, with_a_change
-
-TWO = table_group(TABLES["2"], (1,))
-SWAPS = table_group(TABLES["swaps"], (1, 2))
-MADE = {
-    "table of one": table_group(TABLES["1"], (0,)),
-    "table of four": table_group(TABLES["2 2"], (1, 2, 3)),
-    "swaps": SWAPS,
-    "square": table_group(TABLES["square"], (2, 4)),
-    "turns": table_group(TABLES["turns"], (1, 2, 6, 7)),
-    "round six": round_group(6),
-    "whole numbers": whole_numbers(),
-    "mirrors": mirrors(),
-    "free": free_group(2),
-    "plane": beside(whole_numbers(), whole_numbers()),
-    "mirrors beside round four": beside(mirrors(), round_group(4)),
-    "swaps beside two": beside(SWAPS, TWO),
-    "two joined to round three": joined(TWO, round_group(3)),
-    "whole numbers joined to mirrors": joined(whole_numbers(), mirrors()),
-    "swaps joined to two": joined(SWAPS, TWO),
-    "bottle": rule_group(*COMPLETE["bottle"][:3]),
-    "squares": rule_group(*COMPLETE["squares"][:3]),
-    "four points": rule_group(*COMPLETE["four points"][:3]),
-}
 
 
 def actions(made, many):
